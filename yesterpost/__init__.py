@@ -1,0 +1,1 @@
+"""Yesterpost: a day whose letters may come out ahead of their sending."""
