@@ -20,10 +20,15 @@ def is_guess(house, guess):
     return len(guess) == len(sizes) and all([0 <= letter < size for letter, size in zip(guess, sizes)])
 
 
-def number_of(house, guess):
-    """The number of the guess; the first open post counts most."""
+def check_guess(house, guess):
+    """Refuse what is no guess of the house."""
     if not is_guess(house, guess):
         raise NoGuess("no guess of this house")
+
+
+def number_of(house, guess):
+    """The number of the guess; the first open post counts most."""
+    check_guess(house, guess)
     number = 0
     for letter, size in zip(guess, open_sizes(house)):
         number = number * size + letter
@@ -41,3 +46,8 @@ def guess_at(house, number):
         letters.append(rest % size)
         rest //= size
     return tuple(letters[::-1])
+
+
+def all_guesses(house):
+    """All guesses, rising by number."""
+    return [guess_at(house, number) for number in range(how_many(house))]
