@@ -109,7 +109,20 @@ def some_web(seed):
     return checked([(name, sizes[name], 0) for name in names], [(name, sizes[name], "back", 0) for name in names], rows)
 
 
+def some_great(seed):
+    """A house at the bounds: boxes of the sizes 1 and 9, 40 rows, and open posts of 243 or 256 guesses."""
+    chance = random.Random(seed)
+    boxes = [(name, size, chance.randrange(size)) for name, size in zip("abcdefgh", (9, 9, 9, 9, 9, 9, 9, 1))]
+    sizes = chance.choice(((9, 9, 3, 1, 1, 1), (4, 4, 4, 4), (2, 2, 2, 2, 4, 4), (8, 8, 4)))
+    posts = [(name, size, "back", chance.randrange(size)) for name, size in zip("pqrstu", sizes)]
+    rows = [("take", box[0], post[0]) for box, post in zip(boxes, posts)]
+    rows += [some_row(chance, boxes, posts, ALL_WORDS) for time in range(40 - 2 * len(posts))]
+    rows += [("send", post[0], box[0]) for box, post in zip(boxes, posts)]
+    return checked(boxes, posts, rows)
+
+
 SOME = [some_house(seed) for seed in range(100)] + [some_web(seed) for seed in range(100)]
+SOME_GREAT = [some_great(seed) for seed in range(8)]
 SOME_RISING = [some_house(seed, RISING_WORDS) for seed in range(150)]
 
 
