@@ -2,13 +2,56 @@
 
 import unittest
 
+from houses import NOTHING, HouseCase, mapped
 from yesterpost import errors
+from yesterpost.almanac import Almanac
+from yesterpost.book import Book
+from yesterpost.climb import climb
+from yesterpost.day import sent
 from yesterpost.errors import HouseError, NoPage, NoRow
+from yesterpost.home import checked
+from yesterpost.joining import beside
+from yesterpost.mixes import mix, weights_of
+from yesterpost.page import read
+from yesterpost.shares import share
 
 NAMES = (
     "NoName", "Twice", "NoSize", "NoWay", "TooGreat", "NoRow", "NoGuess", "NoCount", "NotRising", "NoShare",
     "NoMix", "NotStill", "Clash", "NoPage", "NoPlace", "NoBox", "NoPost", "InUse", "NoMark", "NothingLeft",
 )
+
+ROUND = mapped((1, 2, 0))
+# One plain call that brings about each refusal.
+CALLS = {
+    "NoName": lambda: checked([("A", 2, 0)], [], []),
+    "Twice": lambda: checked([("a", 2, 0), ("a", 2, 0)], [], []),
+    "NoSize": lambda: checked([("a", 0, 0)], [], []),
+    "NoWay": lambda: checked([], [("a", 2, "off", 0)], []),
+    "TooGreat": lambda: checked([("a", 2, 0)] * 9, [], []),
+    "NoRow": lambda: checked([], [], [()]),
+    "NoGuess": lambda: sent(ROUND, (3,)),
+    "NoCount": lambda: Almanac(ROUND, (0,)).move_to(-1),
+    "NotRising": lambda: climb(ROUND),
+    "NoShare": lambda: share(1, 0),
+    "NoMix": lambda: mix(ROUND, []),
+    "NotStill": lambda: weights_of(ROUND, [((0,), (1, 1))]),
+    "Clash": lambda: beside(ROUND, ROUND),
+    "NoPage": lambda: read("no page"),
+    "NoPlace": lambda: Book(NOTHING).cut(0),
+    "NoBox": lambda: Book(NOTHING).shut_box("a"),
+    "NoPost": lambda: Book(NOTHING).shut_post("a"),
+    "InUse": lambda: Book(ROUND).shut_box("hand"),
+    "NoMark": lambda: Book(NOTHING).go_to("a"),
+    "NothingLeft": lambda: Book(NOTHING).undo(),
+}
+
+
+class TestCalls(HouseCase):
+    def test_each_is_of_its_own_class_and_of_no_other(self):
+        self.assertEqual(tuple(CALLS), NAMES)
+        for name, call in CALLS.items():
+            with self.subTest(name):
+                self.refused(getattr(errors, name), call)
 
 
 class TestClasses(unittest.TestCase):

@@ -111,6 +111,41 @@ class TestSources(unittest.TestCase):
                     if isinstance(node.value, str):
                         self.assertNotIn("%", node.value)
 
+    def test_no_name_is_a_method_and_an_attribute(self):
+        methods, attributes = [], set()
+        for path, text, tree in self.each():
+            for node in ast.walk(tree):
+                if isinstance(node, ast.ClassDef):
+                    names = [part.name for part in node.body if isinstance(part, ast.FunctionDef)]
+                    self.assertEqual(len(names), len(set(names)))
+                    methods += names
+                elif isinstance(node, ast.Attribute) and isinstance(node.ctx, ast.Store):
+                    attributes.add(node.attr)
+        self.assertGreater(len(attributes), 5)
+        self.assertEqual(attributes & set(methods), set())
+
+    def test_no_file_imports_itself_by_others(self):
+        ahead = {}
+        for path, text, tree in self.each():
+            ahead[path.stem] = {
+                node.module.split(".")[1] for node in ast.walk(tree) if isinstance(node, ast.ImportFrom)
+            }
+        while ahead:
+            free = [name for name in ahead if not ahead[name] & set(ahead)]
+            self.assertNotEqual(free, [], ahead)
+            for name in free:
+                del ahead[name]
+
+    def test_no_local_name_is_that_of_an_import(self):
+        for path, text, tree in self.each():
+            imports = {alias.name for node in tree.body if isinstance(node, ast.ImportFrom) for alias in node.names}
+            classes = {node.name for node in tree.body if isinstance(node, ast.ClassDef)}
+            for node in ast.walk(tree):
+                if isinstance(node, ast.Name) and isinstance(node.ctx, ast.Store):
+                    self.assertNotIn(node.id, imports | classes)
+                elif isinstance(node, ast.arg):
+                    self.assertNotIn(node.arg, imports | classes)
+
     def test_no_warnings(self):
         with warnings.catch_warnings():
             warnings.simplefilter("error")

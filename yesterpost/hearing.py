@@ -3,22 +3,22 @@
 from yesterpost.day import sent
 from yesterpost.guesses import all_guesses
 from yesterpost.home import open_names
-from yesterpost.rows import PARTS
+from yesterpost.rows import parts_of
 
 # A box and a post may have one name, so that either is told here as (kind, name).
 
 
 def written(row):
     """What the row writes."""
-    return (PARTS[row[0]][0], row[1])
+    return parts_of(row)[0]
 
 
 def read_by(row, ways):
     """What the row reads of the boxes and of the posts that pass on what they were sent, over the posts' ways."""
     if row[0] == "turn":
         return [written(row)]
-    things = [(kind, part) for kind, part in zip(PARTS[row[0]][1:], row[2:]) if kind in ("box", "post")]
-    return [(kind, name) for kind, name in things if kind == "box" or ways[name] == "on"]
+    others = parts_of(row)[1:]
+    return [(kind, name) for kind, name in others if kind == "box" or kind == "post" and ways[name] == "on"]
 
 
 def ways_of(house):

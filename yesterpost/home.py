@@ -1,6 +1,6 @@
 """Houses: boxes, posts and rows that were found good."""
 
-from yesterpost.errors import NoName, NoRow, NoSize, NoWay, TooGreat, Twice
+from yesterpost.errors import NoName, NoPost, NoRow, NoSize, NoWay, TooGreat, Twice
 from yesterpost.rows import good_row, is_name
 
 MOST_BOXES = 8
@@ -95,3 +95,15 @@ def open_posts(house):
 def open_names(house):
     """The names of the open posts, in their order."""
     return [post[0] for post in open_posts(house)]
+
+
+def with_way(posts, name, way, letter):
+    """The posts, the named one with this way and this letter."""
+    names = [post[0] for post in posts]
+    if name not in names:
+        raise NoPost(f"no post has the name {name!r}")
+    at = names.index(name)
+    size = posts[at][1]
+    check_way(way)
+    check_below(letter, size)
+    return posts[:at] + ((name, size, way, letter),) + posts[at + 1:]

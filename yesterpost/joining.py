@@ -2,7 +2,7 @@
 
 from yesterpost.errors import Clash, NoName
 from yesterpost.home import checked
-from yesterpost.rows import PARTS
+from yesterpost.rows import parts_of
 
 
 def beside(one, other):
@@ -40,6 +40,6 @@ def renamed(house, box_names, post_names):
 def row_renamed(row, names):
     """The row with the new names, by kind and old name, of the boxes and posts that it tells."""
     told = [row[0]]
-    for kind, part in zip(PARTS[row[0]], row[1:]):
+    for kind, part in parts_of(row):
         told.append(names[kind][part] if kind in names else part)
     return tuple(told)

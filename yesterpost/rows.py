@@ -25,12 +25,17 @@ def good_row(boxes, posts, row):
         return False
     sizes = {box[0]: box[1] for box in boxes}
     names = [post[0] for post in posts]
-    return all([good_part(sizes, names, row[1], kind, part) for kind, part in zip(PARTS[row[0]], row[1:])])
+    return all([good_part(sizes, names, row[1], kind, part) for kind, part in parts_of(row)])
 
 
 def has_form(row):
     """Whether the tuple begins with a word of a row and has as many parts as that word wants."""
     return len(row) > 0 and row[0] in PARTS and len(row) == 1 + len(PARTS[row[0]])
+
+
+def parts_of(row):
+    """The parts behind the word of a row that has its form, as pairs (kind, part)."""
+    return list(zip(PARTS[row[0]], row[1:]))
 
 
 def good_part(sizes, names, first, kind, part):

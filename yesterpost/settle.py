@@ -1,9 +1,8 @@
 """Guesses that settle, and the posts that quarrel where none does."""
 
 from yesterpost.day import sent
-from yesterpost.errors import NoPost
 from yesterpost.guesses import all_guesses
-from yesterpost.home import check_below, open_names
+from yesterpost.home import open_names, with_way
 
 
 def settlings(house):
@@ -34,19 +33,8 @@ def held(house, holds):
     """The house in which the named posts are held to their letters; of two holds of one post the later stands."""
     boxes, posts, rows = house
     for name, letter in holds:
-        posts = with_held(posts, name, letter)
+        posts = with_way(posts, name, "held", letter)
     return (boxes, posts, rows)
-
-
-def with_held(posts, name, letter):
-    """The posts, the named one held to the letter."""
-    names = [post[0] for post in posts]
-    if name not in names:
-        raise NoPost(f"no post has the name {name!r}")
-    at = names.index(name)
-    size = posts[at][1]
-    check_below(letter, size)
-    return posts[:at] + ((name, size, "held", letter),) + posts[at + 1:]
 
 
 def letters_seen(house):

@@ -50,8 +50,18 @@ def road(house, guess):
 def led(house, guess, many):
     """The guess that so many steps lead to."""
     walked, at = walk(house, guess)
+    check_count(many)
+    return come_to(walked, at, many)
+
+
+def check_count(many):
+    """Refuse a day or a count of days below 0."""
     if many < 0:
-        raise NoCount("a count of days is not below 0")
+        raise NoCount("a day or a count of days is not below 0")
+
+
+def come_to(walked, at, many):
+    """The guess that so many steps lead to from the first of those walked, whose last leads to the one at the place."""
     if many < len(walked):
         return walked[many]
     return walked[at + (many - at) % (len(walked) - at)]
