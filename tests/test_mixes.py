@@ -11,6 +11,7 @@ from houses import (
     second_sent,
 )
 from yesterpost.errors import NoGuess, NoMix, NoShare, NotStill
+from yesterpost.home import checked
 from yesterpost.mixes import long_run, mix, of_weights, sent_on, stays, weights_of
 from yesterpost.shares import share
 from yesterpost.web import rings, road
@@ -493,8 +494,7 @@ class TestAtTheBounds(MixCase):
         posts = [(name, 4, "back", 0) for name in "pqrs"]
         rows = [("take", name, name) for name in "pqrs"] + [("send", name, name) for name in "pqrs"]
         rows += [("take", "p", "p")] * 32
-        boxes = [(name, 4, 0) for name in "pqrs"]
-        house = (tuple(boxes), tuple(posts), tuple(rows))
+        house = checked([(name, 4, 0) for name in "pqrs"], posts, rows)
         even = [(guess, (1, 256)) for guess in guesses_of(house)]
         for ask in (mix, sent_on, long_run):
             self.assertEqual(ask(house, even[::-1]), even)
@@ -520,6 +520,22 @@ class TestAtTheBounds(MixCase):
             run = long_run(house, pairs)
             self.assertEqual(run, told_of(second_long_run(house, by_guess(pairs))))
             self.assertEqual(of_weights(house, weights_of(house, run)), run)
+
+    def test_one_long_share_for_all_guesses_of_a_ring(self):
+        # The first post sends what it was told, the second one more each day: two rings, of nine guesses each.
+        boxes = [("a", 2, 0), ("b", 9, 0), ("one", 2, 1)]
+        posts = [("p", 2, "back", 0), ("q", 9, "back", 0)]
+        rows = [("take", "a", "p"), ("take", "b", "q"), ("sum", "b", "b", "one")]
+        house = checked(boxes, posts, rows + [("send", "p", "a"), ("send", "q", "b")])
+        pairs = long_pairs(random.Random(26), guesses_of(house), 512)
+        run = long_run(house, pairs)
+        self.assertEqual(run, told_of(second_long_run(house, by_guess(pairs))))
+        self.assertEqual(len({part for guess, part in run}), 2)
+        self.assertGreater(run[0][1][1], 10 ** 5000)
+        self.assertIs(stays(house, run), True)
+        for ask in (mix, sent_on, long_run):
+            self.assertEqual(ask(house, run), run)
+        self.assertEqual(of_weights(house, weights_of(house, run)), run)
 
 
 if __name__ == "__main__":

@@ -10,19 +10,23 @@ from yesterpost.web import rings
 def mix(house, pairs):
     """The mixture of these pairs, or the first refusal."""
     read = []
-    for guess, pair in pairs:
+    # The guesses of a ring often have one long share, which is brought to lowest terms just once.
+    lowest = {}
+    for guess, (top, bottom) in pairs:
         check_guess(house, guess)
-        read.append((guess, share_not_below(pair)))
+        if (top, bottom) not in lowest:
+            lowest[top, bottom] = share_not_below(top, bottom)
+        read.append((guess, lowest[top, bottom]))
     check_whole([part for guess, part in read])
     return gathered(read)
 
 
-def share_not_below(pair):
-    """The share of the pair; one below 0 is refused."""
-    top, bottom = share(pair[0], pair[1])
-    if top < 0:
+def share_not_below(top, bottom):
+    """The share of that top and that bottom; one below 0 is refused."""
+    part = share(top, bottom)
+    if part[0] < 0:
         raise NoMix("no share of a mixture is below 0")
-    return (top, bottom)
+    return part
 
 
 def check_whole(shares):
@@ -83,7 +87,7 @@ def of_weights(house, weights):
     found = rings(house)
     if len(weights) != len(found):
         raise NoMix("there is one weight for each ring")
-    good = [share_not_below(weight) for weight in weights]
+    good = [share_not_below(top, bottom) for top, bottom in weights]
     check_whole(good)
     return dealt(found, good)
 

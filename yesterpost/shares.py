@@ -32,6 +32,9 @@ def times(one, other):
 
 def sum_of(shares):
     """The sum of any number of shares."""
+    # One alone is in lowest terms already, and to find that out of a long one takes its time.
+    if len(shares) == 1:
+        return shares[0]
     top, bottom = over_one_bottom(shares)
     return share(top, bottom)
 
